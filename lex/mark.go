@@ -1,40 +1,53 @@
 package lex
 
-import "sync"
+import (
+	"sync"
 
-// Which marks begin with a byte: it alone, and it with `=` behind.
-const (
-	alone = 1 << iota
-	paired
+	"loupe/api"
 )
 
-// begun tells which marks begin with each byte below 128; the others begin none. It is laid once, and read alone from then on.
+// asked is of how many bytes, a text's first ones, the table is asked.
+const asked = 64
+
+// begun tells of each byte whether a mark begins with it. It is laid once, and only read from then on. How much room is kept for tokens hangs on it; which tokens there are hangs on mark alone.
 var (
 	laid  sync.Once
-	begun [128]uint8
+	begun [256]bool
 )
 
 func lay() {
-	const singles, pairs = ".|,:()[]{}<>?", "=!<>"
-	for i := range len(singles) {
-		begun[singles[i]] |= alone
+	for b := range len(begun) {
+		// Whichever marks begin with a byte, one of them is it alone, or it with `=` behind.
+		begun[b] = mark(string([]byte{byte(b), '='})) != ""
 	}
-	for i := range len(pairs) {
-		begun[pairs[i]] |= paired
+}
+
+// roomFor is no tokens, with room for as many marks as may stand among a text's first bytes, and for its end.
+func roomFor(s string, begins [256]bool) []api.Tok {
+	many := 1
+	for i := range min(len(s), asked) {
+		if begins[s[i]] {
+			many++
+		}
 	}
+	return make([]api.Tok, 0, many)
 }
 
 // mark is the longest mark that a text begins with; nothing, if it begins with none.
 func mark(s string) string {
-	laid.Do(lay)
-	if s == "" || int(s[0]) >= len(begun) {
-		return ""
-	}
-	switch is := begun[s[0]]; {
-	case is&paired != 0 && len(s) > 1 && s[1] == '=':
+	if len(s) >= 2 && isMark(s[:2]) {
 		return s[:2]
-	case is&alone != 0:
+	}
+	if len(s) >= 1 && isMark(s[:1]) {
 		return s[:1]
 	}
 	return ""
+}
+
+func isMark(s string) bool {
+	switch s {
+	case ".", "|", ",", ":", "(", ")", "[", "]", "{", "}", "==", "!=", "<=", ">=", "<", ">", "?":
+		return true
+	}
+	return false
 }
